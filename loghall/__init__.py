@@ -1,0 +1,1 @@
+"""Loghall: a house of logs."""
