@@ -1,6 +1,7 @@
 """Levels: whole numbers from 0 to 99, and their texts."""
 
 from loghall.errors import BadLevel
+from loghall.figures import read_number
 
 MOST = 99
 STARTS = {"all": 0, "debug": 10, "info": 20, "warn": 30, "error": 40, "fatal": 50}
@@ -22,15 +23,10 @@ def level_word(level):
     return word if more == 0 else f"{word}+{more}"
 
 
-def read_more(figures):
-    """What one or two figures tell; 0 where there are no such."""
-    return int(figures) if len(figures) <= 2 and figures.isdecimal() else 0
-
-
 def read_level(text):
     """The level that has this text; BadLevel for all others."""
     word, plus, figures = text.partition("+")
-    level = STARTS.get(word, 0) + read_more(figures)
+    level = STARTS.get(word, 0) + (read_number(figures, MOST) or 0)
     # A level has one text, so writing it again finds every other spelling (debug+10, info+05, warn+).
     if level > MOST or level_word(level) != text:
         raise BadLevel(f"no level has the text {text!r}")

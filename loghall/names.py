@@ -3,6 +3,7 @@
 PART_SIGNS = "abcdefghijklmnopqrstuvwxyz0123456789_"
 MOST_PARTS = 6
 MOST_SIGNS = 8
+TOP_WORD = "*"
 
 
 def is_part(text):
@@ -31,3 +32,15 @@ def above(name):
 def is_under(name, other):
     """Whether a name is the other one, or the other one is above it."""
     return name == other or other in above(name)
+
+
+def name_word(name):
+    """How a name is written where it may not be empty."""
+    return TOP_WORD if name == "" else name
+
+
+def read_name(word):
+    """The name that is written so where it may not be empty; None if none is."""
+    if word == TOP_WORD:
+        return ""
+    return word if word != "" and is_name(word) else None

@@ -1,6 +1,7 @@
 """The package keeps to the rules of LANGUAGE.md that are plain to check over its files."""
 
 import ast
+import builtins
 import pathlib
 import re
 import unittest
@@ -58,6 +59,34 @@ class Language(unittest.TestCase):
                         self.assertRegex(node.module, r"\Aloghall\.[a-z_0-9]+\Z")
                         self.assertTrue((PACKAGE / (node.module.split(".")[1] + ".py")).is_file())
                         self.assertNotIn("*", [one.name for one in node.names])
+
+    def test_names_of_parameters_and_locals(self):
+        for name, text in sources():
+            tree = ast.parse(text)
+            taken = {one.name for node in ast.walk(tree) if isinstance(node, ast.ImportFrom) for one in node.names}
+            taken |= {node.name for node in ast.walk(tree) if isinstance(node, ast.ClassDef)}
+            for node in functions(tree):
+                local = {one.arg for one in ast.walk(node) if isinstance(one, ast.arg)}
+                local |= {one.id for one in ast.walk(node) if isinstance(one, ast.Name) and isinstance(one.ctx, ast.Store)}
+                with self.subTest(file=name, function=node.name):
+                    self.assertEqual(local & (taken | set(dir(builtins))), set())
+                    self.assertEqual([one for one in local if one.startswith("_")], [])
+
+    def test_no_name_is_a_method_and_an_attribute(self):
+        methods, attributes = set(), set()
+        for name, text in sources():
+            for node in ast.walk(ast.parse(text)):
+                if isinstance(node, ast.ClassDef):
+                    methods |= {one.name for one in node.body if isinstance(one, ast.FunctionDef)}
+                if isinstance(node, ast.Attribute) and isinstance(node.ctx, ast.Store):
+                    attributes.add(node.attr)
+        self.assertEqual(methods & attributes, set())
+
+    def test_stars_stand_only_ahead_of_names(self):
+        for name, text in sources():
+            for node in ast.walk(ast.parse(text)):
+                if isinstance(node, ast.Starred):
+                    self.assertIsInstance(node.value, (ast.Name, ast.Attribute), name)
 
     def test_no_float_division_or_percent_sign(self):
         for name, text in sources():

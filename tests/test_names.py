@@ -3,7 +3,7 @@
 import string
 import unittest
 
-from loghall.names import above, is_name, is_under
+from loghall.names import above, is_name, is_under, name_word, read_name
 
 ALLOWED = string.ascii_lowercase + string.digits + "_"
 
@@ -137,6 +137,17 @@ class IsUnder(unittest.TestCase):
             way = (name,) + above(name)
             for other in names:
                 self.assert_under(name, other, other in way)
+
+
+class NameWord(unittest.TestCase):
+    def test_written_and_read(self):
+        for name, word in (("", "*"), ("a", "a"), ("web.db_1", "web.db_1")):
+            self.assertEqual(name_word(name), word)
+            self.assertEqual(read_name(word), name)
+
+    def test_words_that_are_no_names(self):
+        for word in ("", "**", "a.", "*.a", "A", " ", "abcdefghi"):
+            self.assertIsNone(read_name(word))
 
 
 if __name__ == "__main__":
