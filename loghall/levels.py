@@ -31,3 +31,9 @@ def read_level(text):
     if level > MOST or level_word(level) != text:
         raise BadLevel(f"no level has the text {text!r}")
     return level
+
+
+def written_level(text):
+    """The level whose text level_word made, below 0 and above 99 too."""
+    word, plus, figures = text.partition("+")
+    return STARTS[word] + int(figures or "0")

@@ -2,8 +2,8 @@
 
 from loghall.errors import BadLevel, BadRow
 from loghall.figures import read_number
-from loghall.levels import level_word, read_level
-from loghall.names import name_word, read_name
+from loghall.levels import level_word, read_level, written_level
+from loghall.names import TOP_WORD, name_word, read_name
 
 MOST_NUMBER = 999999999
 MOST_MOMENT = 999999999
@@ -51,3 +51,10 @@ def read_row(text):
     if number is None or number == 0 or None in (moment, level, name) or not are_words(words):
         raise BadRow(f"no record has the row {text!r}")
     return number, (moment, level, name, words)
+
+
+def read_written(row):
+    """The pair of the number and the record whose row row_of made."""
+    # Nothing is refused here: what was written may go beyond the limits that read_row keeps to.
+    number, moment, level, name, words = row.split(" ", PARTS - 1)
+    return int(number), (int(moment), written_level(level), "" if name == TOP_WORD else name, words)

@@ -4,7 +4,7 @@ import unittest
 
 from loghall.errors import BadLevel, BadRow, LogError
 from loghall.levels import level_word
-from loghall.rows import read_row, row_of
+from loghall.rows import read_row, read_written, row_of
 
 MOST = 999999999
 SIGNS = [chr(k) for k in range(32, 127) if k != 37]
@@ -167,6 +167,18 @@ class ReadRow(unittest.TestCase):
         except BadRow:
             return
         self.assertEqual(row_of(number, record), text)
+
+
+class ReadWritten(unittest.TestCase):
+    def test_as_read_row(self):
+        for pair, row in PAIRS:
+            self.assertEqual(read_written(row), pair)
+        for level in range(100):
+            self.assertEqual(read_written(row_of(1, (2, level, "a", "b"))), (1, (2, level, "a", "b")))
+
+    def test_beyond_the_limits(self):
+        for pair in ((10 ** 9, (10 ** 9, 30, "a", "w" * 90)), (0, (-1, 100, "a.b.c.d.e.f.g", "x")), (1, (0, -1, "a" * 9, ""))):
+            self.assertEqual(read_written(row_of(pair[0], pair[1])), pair)
 
 
 if __name__ == "__main__":
